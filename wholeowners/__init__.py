@@ -1,0 +1,1 @@
+"""Houses that own shares of one another, reckoned in fractions."""
