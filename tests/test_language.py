@@ -1,4 +1,4 @@
-"""The package's files keep to those rules of LANGUAGE.md that a look at the code can show."""
+"""The package keeps to rules of LANGUAGE.md: parts of L1, L2, L4 to L8, L10, L12, L14, L16 to L18, L25, L26."""
 
 import ast
 import builtins
