@@ -5,6 +5,7 @@ import unittest
 from fractions import Fraction
 from math import gcd
 
+from helper import told
 from wholeowners.books import Book
 from wholeowners.errors import (
     NoHolder, NoHouse, NoLoss, NoName, NoShare, OwnError, TooMany, Twice,
@@ -18,11 +19,6 @@ NAMES = ("a", "z", "az", "abcdefgh", "zzzzzzzz", "stuvwxyz")
 SIX_PERSONS = ("ann", "bob", "cid", "dan", "eve", "fay")
 EIGHT_HOUSES = ("ha", "hb", "hc", "hd", "he", "hf", "hg", "hh")
 MOST = 10 ** 30 - 1
-
-
-def told(book):
-    houses = book.houses()
-    return (book.persons(), houses, [(house, book.shares(house), book.of(house)) for house in houses])
 
 
 def small_book():

@@ -1,4 +1,4 @@
-"""The package keeps to rules of LANGUAGE.md: parts of L1, L2, L4 to L8, L10, L12, L14, L16 to L18, L25, L26."""
+"""The package keeps to rules of LANGUAGE.md: parts of L1 to L8, L10, L12, L14 to L18, L20, L21, L24 to L26."""
 
 import ast
 import builtins
@@ -107,6 +107,48 @@ class Language(unittest.TestCase):
         for node in nodes_of(ast.Name):
             if node.id in dir(builtins):
                 self.assertIn(node.id, PYTHONS_NAMES)
+
+    def test_tops_of_files(self):
+        for path in files():
+            for item in ast.parse(path.read_text()).body:
+                self.assertIsInstance(item, (ast.Expr, ast.ImportFrom, ast.FunctionDef, ast.ClassDef, ast.Assign))
+                if isinstance(item, ast.Expr):
+                    self.assertIsInstance(item.value, ast.Constant)
+                if isinstance(item, ast.Assign):
+                    self.assertIn(type(ast.literal_eval(item.value)), (int, str, tuple))
+
+    def test_no_local_is_called_like_an_import_or_a_class(self):
+        for path in files():
+            tree = ast.parse(path.read_text())
+            taken = [alias.name for node in tree.body if isinstance(node, ast.ImportFrom) for alias in node.names]
+            taken += [node.name for node in tree.body if isinstance(node, ast.ClassDef)]
+            names = [node for node in ast.walk(tree) if isinstance(node, ast.Name)]
+            bound = {node.id for node in names if isinstance(node.ctx, ast.Store)}
+            bound |= {node.arg for node in ast.walk(tree) if isinstance(node, ast.arg)}
+            self.assertEqual(bound & set(taken), set(), path)
+
+    def test_no_two_files_draw_from_one_another(self):
+        draws = {}
+        for path in files():
+            nodes = ast.walk(ast.parse(path.read_text()))
+            draws[path.stem] = [node.module.split(".")[1] for node in nodes if isinstance(node, ast.ImportFrom)]
+        while draws:
+            free = [name for name in draws if not any(other in draws for other in draws[name])]
+            self.assertNotEqual(free, [], draws)
+            draws = {name: draws[name] for name in draws if name not in free}
+
+    def test_is_annotations_and_sets(self):
+        for node in nodes_of(ast.Compare):
+            for sign, value in zip(node.ops, node.comparators):
+                if isinstance(sign, (ast.Is, ast.IsNot)):
+                    self.assertIn(ast.unparse(value), ("None", "True", "False"))
+        for node in nodes_of(ast.FunctionDef):
+            self.assertIsNone(node.returns)
+            self.assertEqual([arg.annotation for arg in node.args.args if arg.annotation is not None], [])
+        for node in nodes_of((ast.Assign, ast.For, ast.comprehension, ast.Return)):
+            value = node.iter if isinstance(node, (ast.For, ast.comprehension)) else node.value
+            self.assertNotIsInstance(value, ast.Set)
+            self.assertFalse(isinstance(value, ast.Call) and ast.unparse(value.func) in ("set", "frozenset"))
 
     def test_methods_and_values(self):
         self.assertEqual(own_methods() & own_values(), set())

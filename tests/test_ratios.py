@@ -3,7 +3,7 @@
 import unittest
 from fractions import Fraction
 
-from wholeowners.ratios import ONE, ZERO, common_divisor, is_above, minus, plus
+from wholeowners.ratios import HALF, ONE, ZERO, common_divisor, is_above, lowest, minus, plus
 
 LONG = 10 ** 29 + 319
 
@@ -20,12 +20,17 @@ def some():
 
 class Ratios(unittest.TestCase):
 
-    def test_zero_and_one(self):
-        self.assertEqual((ZERO, ONE), ((0, 1), (1, 1)))
+    def test_zero_half_and_one(self):
+        self.assertEqual((ZERO, HALF, ONE), ((0, 1), (1, 2), (1, 1)))
 
     def test_common_divisor(self):
         for row in ((12, 18, 6), (18, 12, 6), (5, 7, 1), (0, 4, 4), (-4, 6, 2), (LONG * 6, LONG * 4, LONG * 2)):
             self.assertEqual(common_divisor(row[0], row[1]), row[2])
+
+    def test_lowest_terms(self):
+        for top in (-12, -7, -1, 0, 1, 6, 12, LONG, -LONG * 6):
+            for bottom in (1, 2, 6, 35, LONG, LONG * 4):
+                self.assertEqual(lowest(top, bottom), told(Fraction(top, bottom)))
 
     def test_sums_differences_and_order(self):
         for one in some():

@@ -2,6 +2,7 @@
 
 ZERO = (0, 1)
 ONE = (1, 1)
+HALF = (1, 2)
 
 
 def common_divisor(number, other):
@@ -10,6 +11,11 @@ def common_divisor(number, other):
         number = other
         other = rest
     return number
+
+
+def lowest(top, bottom):
+    common = common_divisor(top, bottom)
+    return (top // common, bottom // common)
 
 
 def plus(first, second):
