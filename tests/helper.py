@@ -7,11 +7,16 @@ from math import gcd
 from wholeowners.books import Book
 from wholeowners.errors import OwnError
 from wholeowners.falls import agreeing, agrees, fewest, spared
+from wholeowners.gifts import are_prices, least_gifts
+from wholeowners.reach import reached
 from wholeowners.ruling import are_steps, is_shut, ruler, rules, self_ruled
+from wholeowners.texts import shown
 from wholeowners.worths import parts, through, whole_group, worths
 
 PERSONS = ("ann", "bob", "cid", "dan")
 HOUSES = ("ha", "hb", "hc", "hd", "he", "hf")
+HALF = Fraction(1, 2)
+THIRD = Fraction(1, 3)
 NO_NAMES = ("", "nobody", "Ann", "HA", "h", "haa", " ha", "ha ", "ha\n", "\n", "~", "a" * 10000)
 
 
@@ -36,6 +41,44 @@ def made(persons, houses):
             if holder != persons[0]:
                 book.sale(house, persons[0], holder, ratio(share))
     return book
+
+
+def whole_books():
+    # Books in which a group owns itself whole, and their greatest group.
+    return [
+        (made(["ann"], {"ha": (1, 2, 3, {"ha": 1})}), ["ha"]),
+        (made(["ann"], {"ha": (0, 0, 0, {"hb": 1}), "hb": (0, 0, 0, {"ha": 1})}), ["ha", "hb"]),
+        (made(["ann"], {"ha": (0, 0, 0, {"hb": HALF, "ha": HALF}), "hb": (0, 0, 0, {"ha": 1})}), ["ha", "hb"]),
+        (made(["ann", "bob"], {
+            "hd": (1, 0, 0, {"hb": THIRD, "bob": THIRD}),
+            "hb": (2, 0, 0, {"hc": 1}),
+            "hc": (3, 0, 0, {"hb": 1}),
+            "ha": (4, 0, 0, {"bob": 1}),
+        }), ["hb", "hc"]),
+        (made(["ann"], {
+            "ha": (0, 0, 0, {"ha": 1}),
+            "hb": (0, 0, 0, {}),
+            "hc": (0, 0, 0, {"hd": 1}),
+            "hd": (0, 0, 0, {"hc": HALF, "hd": HALF}),
+        }), ["ha", "hc", "hd"]),
+        # What the ring holds whole lies in the greatest group; what holds of the ring does not pull it out.
+        (made(["ann"], {
+            "ha": (0, 0, 0, {"hb": 1}),
+            "hb": (0, 0, 0, {"hc": 1}),
+            "hc": (0, 0, 0, {"hd": 1}),
+            "hd": (0, 0, 0, {"hc": 1}),
+            "he": (0, 0, 0, {"ha": HALF}),
+            "hf": (0, 0, 0, {"he": 1}),
+        }), ["ha", "hb", "hc", "hd"]),
+        # One share of a person at the end of the chain opens all that hangs on it, but not the rest.
+        (made(["ann"], {
+            "ha": (0, 0, 0, {"hb": 1}),
+            "hb": (0, 0, 0, {"hc": 1}),
+            "hc": (0, 0, 0, {"ha": Fraction(999999, 1000000)}),
+            "hd": (0, 0, 0, {"hd": HALF, "ha": HALF}),
+            "he": (0, 0, 0, {"he": 1}),
+        }), ["he"]),
+    ]
 
 
 def told(book):
@@ -97,19 +140,27 @@ def greatest_group(book):
     return sorted({house for group in groups for house in group})
 
 
-def worths_by(book, things):
-    # By elimination in Python's own fractions, held against all owning at the end.
-    houses = book.houses()
-    rows = [[Fraction(int(one == other)) - share_of(book, one, other) for other in houses] + [Fraction(things[one])]
-            for one in houses]
-    for turn in range(len(houses)):
-        pivot = next(place for place in range(turn, len(houses)) if rows[place][turn] != 0)
+def solution_of(rows):
+    # By elimination in Python's own fractions; a row has what it comes to at its end.
+    rows = [[Fraction(number) for number in row] for row in rows]
+    for turn in range(len(rows)):
+        pivot = next(place for place in range(turn, len(rows)) if rows[place][turn] != 0)
         rows[turn], rows[pivot] = rows[pivot], rows[turn]
         rows[turn] = [number / rows[turn][turn] for number in rows[turn]]
-        for place in range(len(houses)):
+        for place in range(len(rows)):
             if place != turn:
                 rows[place] = [number - rows[place][turn] * by for number, by in zip(rows[place], rows[turn])]
-    worth = {house: row[-1] for house, row in zip(houses, rows)}
+    return [row[-1] for row in rows]
+
+
+def owning_row(book, one):
+    # Each house's worth, less what it holds of others, by all worths.
+    return [int(one == other) - share_of(book, one, other) for other in book.houses()]
+
+
+def worths_by(book, things):
+    houses = book.houses()
+    worth = dict(zip(houses, solution_of([owning_row(book, house) + [things[house]] for house in houses])))
     for house in houses:
         assert worth[house] == things[house] + sum(share_of(book, house, other) * worth[other] for other in houses)
     return worth
@@ -155,10 +206,12 @@ def calls(book):
     # Every question that is built, with names that are none among what is handed in.
     houses = book.houses()
     holders = book.persons() + houses
-    rows = [(call, ()) for call in (whole_group, worths, parts, fewest, spared, agreeing, self_ruled)]
+    plain = (whole_group, worths, parts, fewest, spared, agreeing, self_ruled, least_gifts, shown)
+    rows = [(call, ()) for call in plain]
     rows += [(through, (holder, house)) for holder in holders + ["nobody"] for house in houses + ["ann"]]
     rows += [(rules, (holder,)) for holder in holders + ["nobody"]]
-    rows += [(ruler, (house,)) for house in houses + ["ann", "nobody"]]
+    rows += [(call, (house,)) for call in (ruler, reached) for house in houses + ["ann", "nobody"]]
+    rows += [(are_prices, handed) for handed in some_prices(book)]
     rows += [(agrees, (lot,)) for lot in ([], houses, houses[:1], houses[1:], houses[::-2])]
     for holder in holders + ["nobody"]:
         rows += [(is_shut, (holder, lot)) for lot in ([], houses, houses[:1], houses[1:], ["ann"])]
@@ -170,6 +223,16 @@ def some_steps(holder, houses):
     good = [(house, [holder] + [other for other in houses[:place] if other != holder])
             for place, house in enumerate(houses)]
     return [[], good, good[:1], good[1:2], good + [("nobody", [holder])]]
+
+
+def some_prices(book):
+    # With weights of 1 and prices of 0 the sum is 0; where there are least gifts, their prices too.
+    plain = [(house, (0, 1), (1, 1)) for house in book.houses()]
+    rows = [((0, 1), plain), ((1, 1), plain), ((0, 1), plain[1:]), ((0, 1), plain + [("nobody", (0, 1), (1, 1))])]
+    if whole_group(book) == []:
+        total, _, prices = least_gifts(book)
+        rows += [(total, prices), (total, prices[::-1]), (total, prices[1:])]
+    return rows
 
 
 def answers(book):

@@ -9,6 +9,7 @@ from helper import HOUSES, PERSONS, anew, answers, asked, calls, chance_books, l
 from wholeowners.errors import OwnError, Whole
 from wholeowners.falls import agreeing, fewest, spared
 from wholeowners.ruling import are_steps, is_shut, rules
+from wholeowners.texts import read, shown
 from wholeowners.worths import whole_group
 
 HALF = Fraction(1, 2)
@@ -83,7 +84,7 @@ class AskersOwn(unittest.TestCase):
         for book in [many_lists()] + some_books():
             for call, handed in calls(book):
                 answer = asked(call, book, *handed)
-                if call.__name__ in ("agrees", "are_steps", "is_shut") and type(answer) is not tuple:
+                if call.__name__ in ("agrees", "are_steps", "is_shut", "are_prices") and type(answer) is not tuple:
                     self.assertIs(type(answer), bool)
                 else:
                     self.assertNotIn(bool, [type(number) for number in numbers_in(answer)])
@@ -159,35 +160,60 @@ class BehindDeeds(unittest.TestCase):
             return 1
         return 0
 
+    def keep(self, kept, book):
+        # What is told now, beside a copy that nothing can change.
+        before = answers(book)
+        kept.append((before, copy.deepcopy(before)))
+        return before
+
+    def check_anew(self, kept, book):
+        before = self.keep(kept, book)
+        for other in (anew(book), read(shown(book))):
+            self.assertEqual(told(other), told(book))
+            self.assertEqual(self.keep(kept, other), before)
+
     def test_as_one_made_anew_of_what_stands(self):
         chance = random.Random(21)
         refused = 0
         whole = 0
         for _ in range(12):
+            kept = []
             book = made(["ann"], {"ha": (5, 3, 2, {"ha": HALF}), "hb": (1, 2, 3, {"ha": HALF})})
             for _ in range(40):
                 refused += self.do(self.chance_deed(chance, book))
                 if chance.random() < 0.2:
-                    self.assertEqual(answers(book), answers(anew(book)))
+                    self.check_anew(kept, book)
                 if chance.random() < 0.1:
-                    self.check_twin(chance, book)
-            self.assertEqual(answers(book), answers(anew(book)))
+                    self.check_twin(chance, kept, book)
+            self.check_anew(kept, book)
             whole += whole_group(book) != []
+            for found, copied in kept:
+                self.assertEqual(found, copied)
         self.assertGreater(refused, 50)
         self.assertGreater(whole, 0)
 
-    def check_twin(self, chance, book):
-        before = answers(book)
+    def check_twin(self, chance, kept, book):
+        before = self.keep(kept, book)
         twin = book.twin()
         self.assertEqual(answers(twin), before)
         for _ in range(10):
             self.do(self.chance_deed(chance, twin))
-        self.assertEqual(answers(twin), answers(anew(twin)))
+        self.check_anew(kept, twin)
         self.assertEqual(answers(book), before)
-        kept = answers(twin)
+        behind = answers(twin)
         for _ in range(5):
             self.do(self.chance_deed(chance, book))
-        self.assertEqual(answers(twin), kept)
+        self.assertEqual(answers(twin), behind)
+
+    def test_deeds_on_a_book_that_was_read(self):
+        chance = random.Random(23)
+        for book in some_books():
+            other = read(shown(book))
+            for _ in range(15):
+                row = self.chance_deed(chance, book)
+                self.assertEqual(asked(*row), asked(getattr(other, row[0].__name__), *row[1:]))
+            self.assertEqual(told(other), told(book))
+            self.assertEqual(answers(other), answers(book))
 
     def test_a_refused_deed_changes_no_answer(self):
         book = many_lists()

@@ -3,7 +3,7 @@
 import unittest
 from fractions import Fraction
 
-from wholeowners.ratios import HALF, ONE, ZERO, common_divisor, is_above, lowest, minus, plus
+from wholeowners.ratios import HALF, ONE, ZERO, common_divisor, is_above, lowest, minus, plus, times
 
 LONG = 10 ** 29 + 319
 
@@ -32,11 +32,12 @@ class Ratios(unittest.TestCase):
             for bottom in (1, 2, 6, 35, LONG, LONG * 4):
                 self.assertEqual(lowest(top, bottom), told(Fraction(top, bottom)))
 
-    def test_sums_differences_and_order(self):
+    def test_sums_differences_products_and_order(self):
         for one in some():
             for other in some():
                 self.assertEqual(plus(told(one), told(other)), told(one + other))
                 self.assertEqual(minus(told(one), told(other)), told(one - other))
+                self.assertEqual(times(told(one), told(other)), told(one * other))
                 self.assertIs(is_above(told(one), told(other)), one > other)
 
 

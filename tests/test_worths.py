@@ -6,7 +6,7 @@ from fractions import Fraction
 
 from helper import (
     HOUSES, NO_NAMES, PERSONS, chance_books, fraction, greatest_group, is_fraction, is_row_of_fractions, made, ratio,
-    share_of, things_of, worths_by,
+    share_of, things_of, whole_books, worths_by,
 )
 from wholeowners.books import Book
 from wholeowners.errors import NoHolder, NoHouse, OwnError, Whole
@@ -28,44 +28,6 @@ def ring_of_three():
         "hb": (0, 0, 0, {"ha": HALF}),
         "hc": (0, 0, 0, {"hb": HALF}),
     })
-
-
-def whole_books():
-    # Books in which a group owns itself whole, and their greatest group.
-    return [
-        (made(["ann"], {"ha": (1, 2, 3, {"ha": 1})}), ["ha"]),
-        (made(["ann"], {"ha": (0, 0, 0, {"hb": 1}), "hb": (0, 0, 0, {"ha": 1})}), ["ha", "hb"]),
-        (made(["ann"], {"ha": (0, 0, 0, {"hb": HALF, "ha": HALF}), "hb": (0, 0, 0, {"ha": 1})}), ["ha", "hb"]),
-        (made(["ann", "bob"], {
-            "hd": (1, 0, 0, {"hb": THIRD, "bob": THIRD}),
-            "hb": (2, 0, 0, {"hc": 1}),
-            "hc": (3, 0, 0, {"hb": 1}),
-            "ha": (4, 0, 0, {"bob": 1}),
-        }), ["hb", "hc"]),
-        (made(["ann"], {
-            "ha": (0, 0, 0, {"ha": 1}),
-            "hb": (0, 0, 0, {}),
-            "hc": (0, 0, 0, {"hd": 1}),
-            "hd": (0, 0, 0, {"hc": HALF, "hd": HALF}),
-        }), ["ha", "hc", "hd"]),
-        # What the ring holds whole lies in the greatest group; what holds of the ring does not pull it out.
-        (made(["ann"], {
-            "ha": (0, 0, 0, {"hb": 1}),
-            "hb": (0, 0, 0, {"hc": 1}),
-            "hc": (0, 0, 0, {"hd": 1}),
-            "hd": (0, 0, 0, {"hc": 1}),
-            "he": (0, 0, 0, {"ha": HALF}),
-            "hf": (0, 0, 0, {"he": 1}),
-        }), ["ha", "hb", "hc", "hd"]),
-        # One share of a person at the end of the chain opens all that hangs on it, but not the rest.
-        (made(["ann"], {
-            "ha": (0, 0, 0, {"hb": 1}),
-            "hb": (0, 0, 0, {"hc": 1}),
-            "hc": (0, 0, 0, {"ha": Fraction(999999, 1000000)}),
-            "hd": (0, 0, 0, {"hd": HALF, "ha": HALF}),
-            "he": (0, 0, 0, {"he": 1}),
-        }), ["he"]),
-    ]
 
 
 class WholeGroup(unittest.TestCase):

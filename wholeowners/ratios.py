@@ -31,5 +31,9 @@ def minus(first, second):
     return plus(first, (-second[0], second[1]))
 
 
+def times(first, second):
+    return lowest(first[0] * second[0], first[1] * second[1])
+
+
 def is_above(first, second):
     return first[0] * second[1] > second[0] * first[1]

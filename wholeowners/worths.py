@@ -33,12 +33,21 @@ def cut(shares):
     return dict([(holder, share[0] * (pieces // share[1])) for holder, share in shares])
 
 
-def agreement(house, houses, pieces_of):
-    # All pieces of the house, less those that it holds of each, come to its things: to 1 in the
-    # case where it alone has a thing, to 0 in the others' cases.
+def all_cut(book):
+    return dict([(house, cut(book.shares(house))) for house in book.houses()])
+
+
+def owning(house, houses, pieces_of):
+    # By what one piece of each is worth: all pieces of the house, less those that it holds of
+    # each, come to its things.
     row = [-pieces_of[other].get(house, 0) for other in houses]
     row[houses.index(house)] += sum(pieces_of[house].values())
-    return row + [1 if other == house else 0 for other in houses]
+    return row
+
+
+def agreement(house, houses, pieces_of):
+    # The things are 1 in the case where the house alone has a thing, 0 in the others' cases.
+    return owning(house, houses, pieces_of) + [1 if other == house else 0 for other in houses]
 
 
 class Ways:
@@ -46,7 +55,7 @@ class Ways:
     def __init__(self, book):
         need_no_whole_group(book)
         houses = book.houses()
-        pieces_of = dict([(house, cut(book.shares(house))) for house in houses])
+        pieces_of = all_cut(book)
         # As no group owns itself whole, every minor along the diagonal of these rows is above 0,
         # and so is the bottom.
         solution = solved([agreement(house, houses, pieces_of) for house in houses])
