@@ -344,8 +344,8 @@ class Numbers(TextTest):
     def test_numbers_written_otherwise(self):
         self.is_read(*self.one("5", "-5", "0"))
         others = (
-            "+5", "05", "005", "-05", "-0", "+0", "00", "--5", "-", "", "5.0", "5.", "5e0", "0x5", "5_0", "1,000", "five",
-            "5-", "+-5", "5/1", "10/2", "(5)", "V", "\u0665", "\uff15", "\u00b2", "True", "None", "-+5", "0" * 400,
+            "+5", "05", "005", "-05", "-0", "+0", "00", "--5", "-", "", "5.0", "5.", "5e0", "0x5", "5_0", "1,000",
+            "five", "5-", "+-5", "5/1", "10/2", "(5)", "V", "\u0665", "\uff15", "\u00b2", "True", "None", "-+5", "0" * 400,
         )
         for word in others:
             self.refused(*self.one(word, "0", "0"))
@@ -354,7 +354,7 @@ class Numbers(TextTest):
 
     def test_shares_written_otherwise(self):
         self.is_read(*self.one("0", "0", "0"))
-        for word in ("1/1", "2/2", "+1", "01", "1/01", "-1/-1", "1.0", "", "/", "1/", "/1", "1/1/1", "100", "one", "-1"):
+        for word in ("1/1", "2/2", "+1", "01", "1/01", "-1/-1", "1.0", "", "/", "1/", "/1", "1/1/1", "100", "-1"):
             self.refused(*self.one("0", "0", "0", share=word))
 
     def test_fractions_written_otherwise(self):

@@ -97,5 +97,5 @@ def read(text):
     lines = [] if text == "" else text.split("\n")
     try:
         return book_of([read_row(line) for line in lines])
-    except OwnError:
-        raise NoText("no book is shown by this text") from None
+    except OwnError as refusal:
+        raise NoText("no book is shown by this text") from refusal
